@@ -43,10 +43,10 @@ func divideLong(a, b []uint32) (q, r []uint32) {
 		part := u[i : i+len(v)+1]
 		q[i] = takeTimes(part, v, guess(part, v))
 	}
-	return trim(q), shiftDown(trim(u), shift)
+	return trim(q), shiftDown(u, shift)
 }
 
-// guess returns the quotient of u and v, a word, or one more. u has one word more than v.
+// guess returns the quotient of u and v, or one more. The quotient is a word; u has a word more than v.
 func guess(u, v []uint32) uint64 {
 	n := len(v)
 	top := uint64(u[n])<<wordBits | uint64(u[n-1])
