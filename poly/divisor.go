@@ -3,6 +3,7 @@ package poly
 import (
 	"linkwork/api"
 	"linkwork/integer"
+	"linkwork/whole"
 )
 
 // divisor returns a primitive greatest common divisor of two primitive lists, 0 if both are 0.
@@ -37,7 +38,7 @@ func divisor(a, b list) list {
 		}
 		// A further prime has changed nothing: this may be all of the common divisor. If it divides
 		// both lists it is, as no common divisor has a greater degree.
-		if c, _ := primitive(found.list); divides(c, a) && divides(c, b) {
+		if c, _ := whole.Primitive(found.list); divides(c, a) && divides(c, b) {
 			return c
 		}
 	}

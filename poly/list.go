@@ -6,6 +6,7 @@ import (
 	"linkwork/api"
 	"linkwork/fraction"
 	"linkwork/integer"
+	"linkwork/whole"
 )
 
 // list is a polynomial with integer coefficients, that of x^0 first; the last one is not 0. Lists
@@ -15,36 +16,9 @@ type list []api.Whole
 
 // split returns a primitive list and a fraction whose product is p.
 func split(p api.Poly) (list, api.Rat) {
-	den := integer.Of(1)
-	for _, c := range p {
-		if !isZero(c) {
-			den = multiple(den, api.Whole{Mag: c.Den})
-		}
-	}
-	a := make(list, len(p))
-	for i, c := range p {
-		if !isZero(c) {
-			a[i] = integer.Mul(api.Whole{Neg: c.Neg, Mag: c.Num}, quotient(den, api.Whole{Mag: c.Den}))
-		}
-	}
-	a, factor := primitive(a)
-	return a, ratio(factor, den)
-}
-
-// times returns the product of a list and a fraction, which is not 0 unless the list is empty.
-func times(a list, f api.Rat) api.Poly {
-	n, d := fraction.Parts(f)
-	p := make(api.Poly, len(a))
-	for i, c := range a {
-		if isNull(c) {
-			continue
-		}
-		// As f is in lowest terms, only the coefficient and the denominator have a common divisor.
-		common := integer.Gcd(c, d)
-		top := integer.Mul(quotient(c, common), n)
-		p[i] = api.Rat{Neg: top.Neg, Num: top.Mag, Den: quotient(d, common).Mag}
-	}
-	return p
+	a, den := whole.List(p)
+	a, factor := whole.Primitive(a)
+	return a, whole.Ratio(factor, den)
 }
 
 // monic returns a divided by its last coefficient.
@@ -52,33 +26,7 @@ func monic(a list) api.Poly {
 	if len(a) == 0 {
 		return nil
 	}
-	return times(a, ratio(integer.Of(1), last(a)))
-}
-
-// primitive returns a primitive list and an integer whose product is a.
-func primitive(a list) (list, api.Whole) {
-	if len(a) == 0 {
-		return nil, api.Whole{}
-	}
-	common, one := api.Whole{}, integer.Of(1)
-	for _, c := range a {
-		if common = integer.Gcd(common, c); integer.Cmp(common, one) == 0 {
-			break
-		}
-	}
-	b := make(list, len(a))
-	for i, c := range a {
-		b[i] = quotient(c, common)
-	}
-	return b, common
-}
-
-// cut returns a without the zeros at its end.
-func cut(a list) list {
-	for len(a) > 0 && isNull(last(a)) {
-		a = a[:len(a)-1]
-	}
-	return a
+	return whole.Poly(a, whole.Ratio(integer.Of(1), last(a)))
 }
 
 // add returns a + b.
@@ -90,12 +38,12 @@ func add(a, b list) list {
 	for i, y := range b {
 		c[i] = integer.Add(c[i], y)
 	}
-	return cut(c)
+	return whole.Cut(c)
 }
 
 // scale returns a * n.
 func scale(a list, n api.Whole) list {
-	if isNull(n) {
+	if whole.IsZero(n) {
 		return nil
 	}
 	c := make(list, len(a))
@@ -132,15 +80,15 @@ func divide(a, b list) (c, r list, factor api.Whole) {
 		top := len(b) - 1 + i
 		common := integer.Gcd(r[top], last(b))
 		// Where the division leaves a rest, all that there is grows by the least factor that helps.
-		if grow := quotient(last(b), common); !isUnit(grow) {
+		if grow := whole.Quotient(last(b), common); !isUnit(grow) {
 			r, c, factor = scale(r, grow), scale(c, grow), integer.Mul(factor, grow)
 		}
-		c[i] = quotient(r[top], last(b))
+		c[i] = whole.Quotient(r[top], last(b))
 		for k, y := range b {
 			r[i+k] = integer.Sub(r[i+k], integer.Mul(c[i], y))
 		}
 	}
-	return c, cut(r[:len(b)-1]), factor
+	return c, whole.Cut(r[:len(b)-1]), factor
 }
 
 // derivative returns the derivative of a, which is not 0.
@@ -156,7 +104,7 @@ func derivative(a list) list {
 func within(a, b list, d api.Whole) (c list, den api.Whole) {
 	den = integer.Of(1)
 	for i, x := range slices.Backward(a) {
-		c = add(mul(c, b), cut(list{integer.Mul(x, den)}))
+		c = add(mul(c, b), whole.Cut(list{integer.Mul(x, den)}))
 		if i > 0 {
 			den = integer.Mul(den, d)
 		}
@@ -167,11 +115,11 @@ func within(a, b list, d api.Whole) (c list, den api.Whole) {
 // value returns the value of a at x.
 func value(a list, x api.Rat) api.Rat {
 	n, d := fraction.Parts(x)
-	c, den := within(a, cut(list{n}), d)
+	c, den := within(a, whole.Cut(list{n}), d)
 	if len(c) == 0 {
 		return api.Rat{}
 	}
-	return ratio(c[0], den)
+	return whole.Ratio(c[0], den)
 }
 
 // through returns a list and a fraction whose product has the value y[i] at x[i] for all i.
@@ -180,15 +128,15 @@ func through(x, y []api.Rat) (list, api.Rat) {
 	var a list
 	den, zero := integer.Of(1), list{integer.Of(1)}
 	for i := range x {
-		gap := fraction.Sub(y[i], over(value(a, x[i]), ratio(den, integer.Of(1))))
+		gap := fraction.Sub(y[i], over(value(a, x[i]), whole.Ratio(den, integer.Of(1))))
 		n, d := fraction.Parts(over(gap, value(zero, x[i])))
-		common := multiple(den, d)
-		a = add(scale(a, quotient(common, den)), scale(zero, integer.Mul(n, quotient(common, d))))
+		common := whole.Multiple(den, d)
+		a = add(scale(a, whole.Quotient(common, den)), scale(zero, integer.Mul(n, whole.Quotient(common, d))))
 		den = common
 		n, d = fraction.Parts(x[i])
 		zero = mul(zero, list{integer.Neg(n), d})
 	}
-	return a, ratio(integer.Of(1), den)
+	return a, whole.Ratio(integer.Of(1), den)
 }
 
 // last returns the last coefficient of a, which is not empty.
@@ -196,33 +144,9 @@ func last(a list) api.Whole {
 	return a[len(a)-1]
 }
 
-// isNull reports whether n is 0.
-func isNull(n api.Whole) bool {
-	return len(n.Mag) == 0
-}
-
 // isUnit reports whether n is 1 or -1.
 func isUnit(n api.Whole) bool {
 	return len(n.Mag) == 1 && n.Mag[0] == 1
-}
-
-// quotient returns a / b, for b other than 0 that divides a.
-func quotient(a, b api.Whole) api.Whole {
-	// As b is not 0, there is no error.
-	q, _, _ := integer.Div(a, b)
-	return q
-}
-
-// multiple returns the least common multiple of a and b, which are above 0.
-func multiple(a, b api.Whole) api.Whole {
-	return integer.Mul(quotient(a, integer.Gcd(a, b)), b)
-}
-
-// ratio returns n / d, for d other than 0.
-func ratio(n, d api.Whole) api.Rat {
-	// As d is not 0, there is no error.
-	x, _ := fraction.From(n, d)
-	return x
 }
 
 // over returns x / y, for y other than 0.

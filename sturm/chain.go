@@ -6,6 +6,7 @@ import (
 	"linkwork/api"
 	"linkwork/fraction"
 	"linkwork/integer"
+	"linkwork/whole"
 )
 
 // element is an element of Sturm's chain: the product of a fraction and a list whose coefficients
@@ -17,11 +18,11 @@ type element struct {
 
 // chain returns Sturm's chain that begins with f, which is monic.
 func chain(f api.Poly) []api.Poly {
-	a := integers(f)
-	first := element{ratio(integer.Of(1), last(a)), a}
-	all := []api.Poly{first.poly()}
+	a, _ := whole.List(f)
+	first := element{whole.Ratio(integer.Of(1), last(a)), a}
+	all := []api.Poly{whole.Poly(first.list, first.factor)}
 	for second := first.derivative(); len(second.list) > 0; {
-		all = append(all, second.poly())
+		all = append(all, whole.Poly(second.list, second.factor))
 		first, second = second, first.next(second)
 	}
 	return all
@@ -44,25 +45,8 @@ func (e element) next(b element) element {
 
 // times returns the factor of e times a / d, for d other than 0.
 func (e element) times(a list, d api.Whole) element {
-	a, common := primitive(a)
-	return element{fraction.Mul(e.factor, ratio(common, d)), a}
-}
-
-// poly returns e as a polynomial.
-func (e element) poly() api.Poly {
-	n, d := fraction.Parts(e.factor)
-	p := make(api.Poly, len(e.list))
-	for i, c := range e.list {
-		if isNull(c) {
-			continue
-		}
-		// As the factor is in lowest terms, only the coefficient and the denominator can have a
-		// common divisor.
-		common := integer.Gcd(c, d)
-		top := integer.Mul(quotient(c, common), n)
-		p[i] = api.Rat{Neg: top.Neg, Num: top.Mag, Den: quotient(d, common).Mag}
-	}
-	return p
+	a, common := whole.Primitive(a)
+	return element{fraction.Mul(e.factor, whole.Ratio(common, d)), a}
 }
 
 // rest returns r, which is shorter than b, and a number that is not 0, which times a is a product of
@@ -78,30 +62,9 @@ func rest(a, b list) (r list, grown api.Whole) {
 		for i, c := range b {
 			r[shift+i] = integer.Sub(r[shift+i], integer.Mul(top, c))
 		}
-		r, grown = cut(r), integer.Mul(grown, end)
+		r, grown = whole.Cut(r), integer.Mul(grown, end)
 	}
 	return r, grown
-}
-
-// primitive returns a list whose coefficients have no common divisor, and an integer, whose product is a.
-func primitive(a list) (list, api.Whole) {
-	common := api.Whole{}
-	for _, c := range a {
-		common = integer.Gcd(common, c)
-	}
-	b := make(list, len(a))
-	for i, c := range a {
-		b[i] = quotient(c, common)
-	}
-	return b, common
-}
-
-// cut returns a without the zeros at its end.
-func cut(a list) list {
-	for len(a) > 0 && isNull(last(a)) {
-		a = a[:len(a)-1]
-	}
-	return a
 }
 
 // last returns the last coefficient of a, which is not empty.

@@ -4,6 +4,7 @@ import (
 	"linkwork/api"
 	"linkwork/integer"
 	"linkwork/interval"
+	"linkwork/whole"
 )
 
 // stretch is a polynomial without multiple roots on an interval that is no point, by its Bernstein
@@ -18,7 +19,7 @@ type stretch struct {
 
 // over returns a on an interval that is no point.
 func (a list) over(span api.Range) stretch {
-	low, high, unit := parts(span)
+	low, high, unit := whole.Ends(span)
 	// The coefficients with the binomials, by which they are counted, are those of the sum over all
 	// terms c x^i of c (low + high y)^i (unit + unit y)^(n - i).
 	n := len(a) - 1
@@ -49,23 +50,23 @@ func timesLine(a []api.Whole, x, y api.Whole) []api.Whole {
 func weights(n int) []api.Whole {
 	all, common := make([]api.Whole, n+1), integer.Of(1)
 	for k, binomial := 0, integer.Of(1); k <= n; k++ {
-		all[k], common = binomial, multiple(common, binomial)
-		binomial = quotient(integer.Mul(binomial, integer.Of(n-k)), integer.Of(k+1))
+		all[k], common = binomial, whole.Multiple(common, binomial)
+		binomial = whole.Quotient(integer.Mul(binomial, integer.Of(n-k)), integer.Of(k+1))
 	}
 	for k, binomial := range all {
-		all[k] = quotient(common, binomial)
+		all[k] = whole.Quotient(common, binomial)
 	}
 	return all
 }
 
 // startsAtRoot reports whether the lower end is a root.
 func (s stretch) startsAtRoot() bool {
-	return isNull(s.coefficients[0])
+	return whole.IsZero(s.coefficients[0])
 }
 
 // endsAtRoot reports whether the upper end is a root.
 func (s stretch) endsAtRoot() bool {
-	return isNull(s.coefficients[len(s.coefficients)-1])
+	return whole.IsZero(s.coefficients[len(s.coefficients)-1])
 }
 
 // changes returns the number of changes of sign of the coefficients.
@@ -91,7 +92,7 @@ func (s stretch) halves() (lower, upper stretch) {
 	sums := make([]api.Whole, n+1)
 	copy(sums, s.coefficients)
 	for k := n; k >= 0; k-- {
-		power := powerOfTwo(k)
+		power := whole.PowerOfTwo(k)
 		below[n-k], above[k] = integer.Mul(sums[0], power), integer.Mul(sums[k], power)
 		for i := range k {
 			sums[i] = integer.Add(sums[i], sums[i+1])

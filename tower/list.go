@@ -5,6 +5,7 @@ import (
 
 	"linkwork/api"
 	"linkwork/integer"
+	"linkwork/whole"
 )
 
 // list is a number of a ring: its coefficients by the products of the roots, as in api.Num, but
@@ -50,12 +51,12 @@ func at[L ~[]T, T any](a L, i int) T {
 
 // add returns a + b.
 func add(a, b list) list {
-	return merge(a, b, integer.Add, isNull)
+	return merge(a, b, integer.Add, whole.IsZero)
 }
 
 // sub returns a - b.
 func sub(a, b list) list {
-	return merge(a, b, integer.Sub, isNull)
+	return merge(a, b, integer.Sub, whole.IsZero)
 }
 
 // scale returns a * n.
@@ -64,7 +65,7 @@ func scale(a list, n api.Whole) list {
 	for i, x := range a {
 		c[i] = integer.Mul(x, n)
 	}
-	return short(c, isNull)
+	return short(c, whole.IsZero)
 }
 
 // primitive returns a without the greatest common divisor of its coefficients, and this divisor.
@@ -79,7 +80,7 @@ func primitive(a list) (list, api.Whole) {
 	}
 	c := make(list, len(a))
 	for i, x := range a {
-		c[i] = divide(x, common)
+		c[i] = whole.Quotient(x, common)
 	}
 	return c, common
 }
@@ -95,7 +96,7 @@ func halves(a list, k int) (x, y list) {
 	if len(a) <= half {
 		return a, nil
 	}
-	return short(a[:half], isNull), short(a[half:], isNull)
+	return short(a[:half], whole.IsZero), short(a[half:], whole.IsZero)
 }
 
 // join returns x + y s, where s is the root k. x and y have only roots before it.

@@ -2,8 +2,8 @@ package tower
 
 import (
 	"linkwork/api"
-	"linkwork/fraction"
 	"linkwork/integer"
+	"linkwork/whole"
 )
 
 // ring is a tower whose numbers are computed without denominators: the root k of the ring is
@@ -75,32 +75,25 @@ func (r *ring) whole(a api.Num) quotient {
 		if isZero(x) {
 			continue
 		}
-		parts[i] = ratio(api.Whole{Neg: x.Neg, Mag: x.Num}, integer.Mul(api.Whole{Mag: x.Den}, r.units[i]))
-		den = multiple(den, api.Whole{Mag: parts[i].Den})
+		parts[i] = whole.Ratio(api.Whole{Neg: x.Neg, Mag: x.Num}, integer.Mul(api.Whole{Mag: x.Den}, r.units[i]))
+		den = whole.Multiple(den, api.Whole{Mag: parts[i].Den})
 	}
 	top := make(list, len(a))
 	for i, x := range parts {
 		if !isZero(x) {
-			top[i] = integer.Mul(api.Whole{Neg: x.Neg, Mag: x.Num}, divide(den, api.Whole{Mag: x.Den}))
+			top[i] = integer.Mul(api.Whole{Neg: x.Neg, Mag: x.Num}, whole.Quotient(den, api.Whole{Mag: x.Den}))
 		}
 	}
-	return quotient{short(top, isNull), den}
+	return quotient{short(top, whole.IsZero), den}
 }
 
 // fractions returns a as a number of the tower.
 func (r *ring) fractions(a quotient) api.Num {
 	c := make(api.Num, len(a.top))
 	for i, n := range a.top {
-		c[i] = ratio(integer.Mul(n, r.units[i]), a.den)
+		c[i] = whole.Ratio(integer.Mul(n, r.units[i]), a.den)
 	}
 	return c
-}
-
-// ratio returns n / d, for d other than 0.
-func ratio(n, d api.Whole) api.Rat {
-	// As d is not 0, there is no error.
-	x, _ := fraction.From(n, d)
-	return x
 }
 
 // mul returns a * b.

@@ -3,6 +3,7 @@ package tower
 import (
 	"linkwork/api"
 	"linkwork/integer"
+	"linkwork/whole"
 )
 
 // sign returns the sign of the value of a.
@@ -36,7 +37,7 @@ func (r *ring) alive(a list) list {
 			c[i] = n
 		}
 	}
-	return short(c, isNull)
+	return short(c, whole.IsZero)
 }
 
 // commonSign returns the sign of a, whose roots are above 0, if all coefficients have the same
@@ -86,7 +87,7 @@ func (r *ring) near(a quotient) (low, high api.Whole) {
 		b := r.boundsAt(step, len(a.top))
 		lo, hi := b.around(a.top)
 		den := shiftUp(a.den, b.words)
-		low, high = divide(lo, den), divide(hi, den)
+		low, high = whole.Quotient(lo, den), whole.Quotient(hi, den)
 		if integer.Cmp(high, integer.Add(low, integer.Of(1))) <= 0 {
 			return low, high
 		}

@@ -3,27 +3,11 @@ package tower
 import (
 	"linkwork/api"
 	"linkwork/integer"
+	"linkwork/whole"
 )
 
 // wordBits is the number of bits of a word of an integer.
 const wordBits = 32
-
-// isNull reports whether n is 0.
-func isNull(n api.Whole) bool {
-	return len(n.Mag) == 0
-}
-
-// divide returns a / b rounded down, for b above 0.
-func divide(a, b api.Whole) api.Whole {
-	// As b is not 0, there is no error.
-	q, _, _ := integer.Div(a, b)
-	return q
-}
-
-// multiple returns the least common multiple of a and b, which are above 0.
-func multiple(a, b api.Whole) api.Whole {
-	return integer.Mul(divide(a, integer.Gcd(a, b)), b)
-}
 
 // rootBelow returns the greatest integer whose square is at most a, and whether its square is a.
 // a is not below 0.
@@ -33,16 +17,9 @@ func rootBelow(a api.Whole) (root api.Whole, exact bool) {
 	return root, integer.Cmp(integer.Mul(root, root), a) == 0
 }
 
-// powerOfTwo returns 2^n, for n not below 0.
-func powerOfTwo(n int) api.Whole {
-	words := make([]uint32, n/wordBits+1)
-	words[n/wordBits] = 1 << (n % wordBits)
-	return api.Whole{Mag: words}
-}
-
 // shiftUp returns a times 2^(32 n).
 func shiftUp(a api.Whole, n int) api.Whole {
-	if isNull(a) {
+	if whole.IsZero(a) {
 		return a
 	}
 	return api.Whole{Neg: a.Neg, Mag: append(make([]uint32, n), a.Mag...)}
