@@ -34,6 +34,12 @@ func (a list) isolates(r api.Range) bool {
 	if !interval.Valid(r) {
 		return false
 	}
+	// Beyond the reach there are neither roots nor other signs, only longer numbers.
+	end := whole.Reach(a)
+	r, err := interval.Meet(r, api.Range{Lo: fraction.Neg(end), Hi: end})
+	if err != nil {
+		return false
+	}
 	lo, hi, unit := whole.Ends(r)
 	before, after := whole.Sign(a, lo, unit), whole.Sign(a, hi, unit)
 	if integer.Cmp(lo, hi) == 0 {
