@@ -1,8 +1,8 @@
 package poly
 
 import (
-	"linkwork/api"
 	"linkwork/integer"
+	"linkwork/residue"
 	"linkwork/whole"
 )
 
@@ -18,27 +18,27 @@ func divisor(a, b list) list {
 	// keeps integer coefficients, and its degree modulo every prime that does not divide lead. There
 	// the common divisor may have a greater degree, for a few primes, but never a lower one.
 	lead := integer.Gcd(last(a), last(b))
-	found := combined{}
-	for p := firstPrime; ; p = p.before() {
-		unit := p.rest(lead)
+	found := residue.Unknown(0)
+	for p := residue.First; ; p = p.Before() {
+		unit := p.Rest(lead)
 		if unit == 0 {
 			continue
 		}
-		image := p.divisor(p.rests(a), p.rests(b), unit)
+		image := divisorModulo(p, p.Rests(a), p.Rests(b), unit)
 		switch {
 		case len(image) == 1:
 			return list{integer.Of(1)}
-		case len(found.list) == 0 || len(image) < len(found.list):
-			found = combined{make(list, len(image)), integer.Of(1)}
-		case len(image) > len(found.list):
+		case len(found.List) == 0 || len(image) < len(found.List):
+			found = residue.Unknown(len(image))
+		case len(image) > len(found.List):
 			continue
 		}
-		if !found.take(p, image) {
+		if !found.Take(p, image) {
 			continue
 		}
 		// A further prime has changed nothing: this may be all of the common divisor. If it divides
 		// both lists it is, as no common divisor has a greater degree.
-		if c, _ := whole.Primitive(found.list); divides(c, a) && divides(c, b) {
+		if c, _ := whole.Primitive(found.List); divides(c, a) && divides(c, b) {
 			return c
 		}
 	}
@@ -50,27 +50,22 @@ func divides(a, b list) bool {
 	return len(r) == 0
 }
 
-// combined is a list of which the rests modulo some primes are known. Its coefficients are the
-// ones nearest to 0 that have these rests. The modulus is the product of the primes.
-type combined struct {
-	list    list
-	modulus api.Whole
+// divisorModulo returns the greatest common divisor of a and b that has the given last coefficient, in
+// the memory of a or b. Not both of them are empty.
+func divisorModulo(p residue.Prime, a, b []uint64, end uint64) []uint64 {
+	for len(b) > 0 {
+		a, b = b, restModulo(p, a, b)
+	}
+	p.Scale(a, p.Mul(end, p.Inverse(a[len(a)-1])))
+	return a
 }
 
-// take takes the rests modulo a further prime, and reports whether the list had them already.
-func (c *combined) take(p prime, image []uint64) (same bool) {
-	same = true
-	inverse := p.inverse(p.rest(c.modulus))
-	for i, x := range c.list {
-		steps := int(p.sub(image[i], p.rest(x)) * inverse % uint64(p))
-		if steps > int(p/2) {
-			steps -= int(p)
-		}
-		if steps != 0 {
-			c.list[i] = integer.Add(x, integer.Mul(c.modulus, integer.Of(steps)))
-			same = false
-		}
+// restModulo returns the rest of the division of a by b, which is not empty, in the memory of a.
+func restModulo(p residue.Prime, a, b []uint64) []uint64 {
+	inverse := p.Inverse(b[len(b)-1])
+	for len(a) >= len(b) {
+		p.Take(a, b, p.Mul(a[len(a)-1], inverse), len(a)-len(b))
+		a = residue.Cut(a)
 	}
-	c.modulus = integer.Mul(c.modulus, integer.Of(int(p)))
-	return same
+	return a
 }

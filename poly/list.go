@@ -14,13 +14,6 @@ import (
 // its coefficients have no common divisor but 1 and -1, or if it is empty.
 type list []api.Whole
 
-// split returns a primitive list and a fraction whose product is p.
-func split(p api.Poly) (list, api.Rat) {
-	a, den := whole.List(p)
-	a, factor := whole.Primitive(a)
-	return a, whole.Ratio(factor, den)
-}
-
 // monic returns a divided by its last coefficient.
 func monic(a list) api.Poly {
 	if len(a) == 0 {

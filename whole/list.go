@@ -60,6 +60,14 @@ func Primitive(a []api.Whole) (b []api.Whole, common api.Whole) {
 	return b, common
 }
 
+// Split returns a list whose coefficients have no common divisor, and a fraction, whose product is p.
+// Of the empty list they are the empty list and 0.
+func Split(p api.Poly) (a []api.Whole, factor api.Rat) {
+	all, den := List(p)
+	a, common := Primitive(all)
+	return a, Ratio(common, den)
+}
+
 // Cut returns a without the zeros at its end.
 func Cut(a []api.Whole) []api.Whole {
 	for len(a) > 0 && IsZero(a[len(a)-1]) {

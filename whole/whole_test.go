@@ -123,6 +123,15 @@ func TestLists(t *testing.T) {
 		expect(t, "Primitive of "+x[0], x[1], b...)
 		expect(t, "Primitive of "+x[0], x[2], common)
 	}
+	for _, x := range [][3]string{
+		{"", "", "0"}, {"5", "1", "5"}, {"-2/3", "-1", "2/3"}, {"3 -6 0 9/2", "2 -4 0 3", "3/2"}, {"1/2 1/3", "3 2", "1/6"},
+	} {
+		a, factor := whole.Split(poly(x[0]))
+		expect(t, "Split of "+x[0], x[1], a...)
+		if got := fraction.Text(factor); got != x[2] {
+			t.Errorf("Split of %s: %s", x[0], got)
+		}
+	}
 	for _, x := range [][2]string{{"", ""}, {"0", ""}, {"0 0", ""}, {"1 0 0", "1"}, {"0 3 0", "0 3"}, {"1 2", "1 2"}} {
 		expect(t, "Cut of "+x[0], x[1], whole.Cut(list(x[0]))...)
 	}
